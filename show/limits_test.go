@@ -214,6 +214,16 @@ func TestMaxText(t *testing.T) {
 	}
 }
 
+// A text of MaxText bytes that ends without a line feed is read; shown, it has one, and is too long.
+func TestMaxTextWithoutItsEnd(t *testing.T) {
+	t.Parallel()
+	text := strings.TrimSuffix(write(fitted(t, api.MaxText+1)), "\n")
+	if len(text) != api.MaxText {
+		t.Fatal(len(text))
+	}
+	tooLong(t, parsed(t, text))
+}
+
 // tooLong holds that p is readable, and its text too long.
 func tooLong(t *testing.T, p api.Program) {
 	t.Helper()
